@@ -113,16 +113,12 @@ func (r *reader) whole() (V, error) {
 // advance goes on to the next token.
 func (r *reader) advance() {
 	r.at = r.end
-	for r.at < len(r.text) && blank(r.text[r.at]) {
+	for r.at < len(r.text) && word.Blank(r.text[r.at]) {
 		r.at++
 	}
 	var length int
 	r.class, length = token(r.text[r.at:])
 	r.end = r.at + length
-}
-
-func blank(c byte) bool {
-	return c == ' ' || c == '\t' || c == '\n'
 }
 
 // token tells of which class the token is that a text begins with, and its length.
@@ -134,11 +130,13 @@ func token(text string) (class, int) {
 	case word.Letter(c):
 		return named, word.Run(text)
 	case word.Digit(c):
-		return digits(text)
+		n, ok := word.Number(text)
+		return sound(number, n, ok)
 	case c == '-':
 		return negative(text)
 	case c == '"':
-		return quote(text)
+		n, ok := word.Quote(text)
+		return sound(quotation, n, ok)
 	case strings.HasPrefix(text, "<<"), strings.HasPrefix(text, ">>"):
 		return sign, 2
 	case strings.IndexByte("{}[],:", c) >= 0:
@@ -147,38 +145,20 @@ func token(text string) (class, int) {
 	return wrong, 1
 }
 
-// digits takes letters and _ too, as they belong to the int and spoil it.
-func digits(text string) (class, int) {
-	n := word.Run(text)
-	if text[0] == '0' && n > 1 {
-		return wrong, n
+// sound is the class, unless the token is spoilt.
+func sound(c class, length int, ok bool) (class, int) {
+	if !ok {
+		return wrong, length
 	}
-	for _, c := range []byte(text[:n]) {
-		if !word.Digit(c) {
-			return wrong, n
-		}
-	}
-	return number, n
+	return c, length
 }
 
 func negative(text string) (class, int) {
 	if len(text) < 2 || text[1] < '1' || text[1] > '9' {
 		return wrong, 1
 	}
-	s, n := digits(text[1:])
-	return s, n + 1
-}
-
-func quote(text string) (class, int) {
-	for i := 1; i < len(text); i++ {
-		switch c := text[i]; {
-		case c == '"':
-			return quotation, i + 1
-		case c < 32 || c > 126 || c == '\\':
-			return wrong, i
-		}
-	}
-	return wrong, len(text)
+	n, ok := word.Number(text[1:])
+	return sound(number, n+1, ok)
 }
 
 // value reads what the token begins.

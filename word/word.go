@@ -27,6 +27,35 @@ func Run(text string) int {
 	return n
 }
 
+// Blank tells whether a byte may stand between tokens.
+func Blank(c byte) bool {
+	return c == ' ' || c == '\t' || c == '\n'
+}
+
+// Number tells the length of the number that a text begins with, and whether it is one: what stands straight behind its digits belongs to it, and spoils it.
+func Number(text string) (int, bool) {
+	n := Run(text)
+	for _, c := range []byte(text[:n]) {
+		if !Digit(c) {
+			return n, false
+		}
+	}
+	return n, n == 1 || n > 1 && text[0] != '0'
+}
+
+// Quote tells the length of the text in quotes that a text begins with, and whether it is one.
+func Quote(text string) (int, bool) {
+	for i := 1; i < len(text); i++ {
+		switch c := text[i]; {
+		case c == '"':
+			return i + 1, true
+		case c < 32 || c > 126 || c == '\\':
+			return i, false
+		}
+	}
+	return len(text), false
+}
+
 // IsName tells whether a text is a name, and nothing else.
 func IsName(text string) bool {
 	return text != "" && len(text) <= api.MaxWord && Letter(text[0]) && Run(text) == len(text) && !Reserved(text)

@@ -59,3 +59,35 @@ func TestP5Bytes(t *testing.T) {
 		}
 	}
 }
+
+func TestP5Numbers(t *testing.T) {
+	for text, want := range map[string]struct {
+		n  int
+		ok bool
+	}{"0": {1, true}, "7,": {1, true}, "10 ": {2, true}, "00": {2, false}, "01": {2, false}, "1a": {2, false}, "1_ ": {2, false}, "_": {1, false}, "_1": {2, false}, "a": {1, false}, "-": {0, false}, "": {0, false}, "907-": {3, true}} {
+		if n, ok := Number(text); n != want.n || ok != want.ok {
+			t.Errorf("Number(%q) = %d, %v", text, n, ok)
+		}
+	}
+}
+
+func TestP5Quotes(t *testing.T) {
+	for text, want := range map[string]int{`""`: 2, `"a"b`: 3, `" ~"`: 4, `""""`: 2} {
+		if n, ok := Quote(text); n != want || !ok {
+			t.Errorf("Quote(%q) = %d, %v", text, n, ok)
+		}
+	}
+	for _, text := range []string{`"`, `"a`, "\"\n\"", `"\"`, "\"\x1f\"", "\"\x7f\"", "\"\x80\""} {
+		if _, ok := Quote(text); ok {
+			t.Errorf("Quote(%q): is none", text)
+		}
+	}
+}
+
+func TestP5Blanks(t *testing.T) {
+	for i := range 256 {
+		if Blank(byte(i)) != (i == 9 || i == 10 || i == 32) {
+			t.Errorf("Blank(%d)", i)
+		}
+	}
+}
