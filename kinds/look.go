@@ -34,7 +34,8 @@ type looker struct {
 	*table
 	declared  names
 	families  []*family
-	turns     int // in how many ways atoms can be exchanged
+	named     []int // by the numbers of families: the first place where an expression names one of the atoms
+	turns     int   // in how many ways atoms can be exchanged
 	variables int
 	actions   int
 	choice    int // the first place of a choose
@@ -104,7 +105,7 @@ func (l *looker) lookName(e *tree.Expr, s *scope) (fact, *fault) {
 		return fact{}, &fault{e.At, api.ErrName}
 	}
 	if t.role == oneAtom {
-		t.family.named = min(t.family.named, e.At)
+		l.named[t.family.number] = min(l.named[t.family.number], e.At)
 	}
 	f := t.fact
 	switch e.Sort {

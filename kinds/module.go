@@ -75,8 +75,9 @@ func (l *looker) fair(n tree.Ident) *fault {
 
 // declareAtoms declares a set of atoms, and each of them.
 func (l *looker) declareAtoms(d tree.Declaration) {
-	f := &family{size: len(d.Names), named: nowhere}
+	f := &family{number: len(l.families), size: len(d.Names)}
 	l.families = append(l.families, f)
+	l.named = append(l.named, nowhere)
 	l.declared[d.Ident.Name] = &thing{role: atoms, family: f, fact: fact{kind: l.set(atom), cost: 1}}
 	for _, n := range d.Names {
 		l.declared[n.Name] = &thing{role: oneAtom, family: f, fact: fact{kind: atom, cost: 1}}
@@ -208,9 +209,9 @@ func (l *looker) declare(d tree.Declaration, f fact) *thing {
 // toldApart looks for the first place where an atom of a symmetric set is told apart from the others (K7).
 func (l *looker) toldApart() *fault {
 	at := nowhere
-	for _, f := range l.families {
+	for i, f := range l.families {
 		if f.symmetric {
-			at = min(at, f.named, l.choice)
+			at = min(at, l.named[i], l.choice)
 		}
 	}
 	if at == nowhere {

@@ -31,9 +31,9 @@ type thing struct {
 
 // family is a set of atoms.
 type family struct {
+	number    int
 	size      int
 	symmetric bool
-	named     int // the first place where an expression names one of them
 }
 
 // nowhere is a place behind all others.

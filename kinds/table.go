@@ -1,7 +1,9 @@
 package kinds
 
 import (
+	"maps"
 	"math"
+	"slices"
 	"strings"
 )
 
@@ -57,6 +59,11 @@ func newTable() *table {
 		t.number(shape{build: plain, name: name})
 	}
 	return t
+}
+
+// clone is a table of the same kinds; what is made in one of them is not in the other.
+func (t *table) clone() *table {
+	return &table{slices.Clone(t.shapes), slices.Clone(t.lengths), maps.Clone(t.numbers), maps.Clone(t.joins)}
 }
 
 // number finds the kind of a shape, or makes it.

@@ -13,11 +13,16 @@ const anyNumber = -1
 
 // Apply does what an operator does; nil, if there is none of this name for so many values.
 func Apply(op string, args ...V) V {
+	return Operator(op, len(args))(args)
+}
+
+// Operator is what Apply does with an operator and a number of values, for whoever does it often. The list that it is handed is not kept.
+func Operator(op string, takes int) func(args []V) V {
 	o, found := find(op)
-	if !found || o.takes != anyNumber && o.takes != len(args) {
-		return V{}
+	if !found || o.takes != anyNumber && o.takes != takes {
+		return func([]V) V { return V{} }
 	}
-	return o.makes(args)
+	return o.makes
 }
 
 // find looks an operator up, part by part of the table, so that no more of it is made than is needed.
@@ -34,11 +39,11 @@ func find(op string) (operator, bool) {
 
 func logic() []operator {
 	return []operator{
-		{"not", 1, func(l []V) V { return V{!l[0].so()} }},
-		{"and", 2, func(l []V) V { return V{l[0].so() && l[1].so()} }},
-		{"or", 2, func(l []V) V { return V{l[0].so() || l[1].so()} }},
-		{"implies", 2, func(l []V) V { return V{!l[0].so() || l[1].so()} }},
-		{"iff", 2, func(l []V) V { return V{l[0].so() == l[1].so()} }},
+		{"not", 1, func(l []V) V { return V{!l[0].So()} }},
+		{"and", 2, func(l []V) V { return V{l[0].So() && l[1].So()} }},
+		{"or", 2, func(l []V) V { return V{l[0].So() || l[1].So()} }},
+		{"implies", 2, func(l []V) V { return V{!l[0].So() || l[1].So()} }},
+		{"iff", 2, func(l []V) V { return V{l[0].So() == l[1].So()} }},
 		{"=", 2, func(l []V) V { return V{same(l[0], l[1])} }},
 		{"/=", 2, func(l []V) V { return V{!same(l[0], l[1])} }},
 	}

@@ -57,8 +57,8 @@ func weighAll(list []V) int {
 	return sum
 }
 
-// so tells whether a value is true: no other one is so.
-func (v V) so() bool {
+// So tells whether a value is true: no other one is so.
+func (v V) So() bool {
 	return v.is == true
 }
 

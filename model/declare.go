@@ -1,0 +1,82 @@
+package model
+
+import (
+	"slices"
+
+	"sextant/api"
+	"sextant/tree"
+	"sextant/value"
+)
+
+// declare takes in a declaration, behind all that stand ahead of it; what is wrong is so of its name.
+func (m *Model) declare(d tree.Declaration) api.Errno {
+	switch d.Word {
+	case "atoms":
+		m.declareAtoms(d)
+	case "variable":
+		return m.declareVariable(d)
+	case "constant":
+		m.names[d.Ident.Name] = thing{code: fixed(m.fixed(d.Expr))}
+	case "define":
+		m.names[d.Ident.Name] = thing{code: m.names.made(d.Expr, inBrackets(d))}
+	case "init":
+		m.initial.comes = both(m.initial.comes, m.names.made(d.Expr, nil).comes)
+	case "action":
+		m.actions = append(m.actions, m.title(d))
+	case "invariant":
+		m.invariants = append(m.invariants, m.title(d))
+	case "property":
+		m.properties = append(m.properties, d.Ident.Name)
+	}
+	return api.OK
+}
+
+func (m *Model) declareAtoms(d tree.Declaration) {
+	atoms := make([]value.V, 0, len(d.Names))
+	for _, n := range d.Names {
+		atom := value.Atom(n.Name)
+		atoms = append(atoms, atom)
+		m.names[n.Name] = thing{code: fixed(atom)}
+	}
+	m.names[d.Ident.Name] = thing{code: fixed(value.Apply("set", atoms...))}
+}
+
+func (m *Model) declareVariable(d tree.Declaration) api.Errno {
+	elements, isSet := m.fixed(d.Expr).Elements()
+	if !isSet {
+		return api.ErrRange
+	}
+	values := slices.Collect(elements)
+	if len(values) == 0 {
+		return api.ErrRange
+	}
+	m.space *= len(values)
+	if m.space > api.MaxSpace {
+		return api.ErrFull
+	}
+	place := len(m.variables)
+	m.names[d.Ident.Name] = thing{code{comes: now(place)}, place}
+	m.variables = append(m.variables, variable{d.Ident.Name, values})
+	return api.OK
+}
+
+// fixed is what an expression comes to that speaks of no state.
+func (m *Model) fixed(e *tree.Expr) value.V {
+	return m.names.made(e, nil).comes(&machine{}).value
+}
+
+// inBrackets gives the names in brackets of a definition.
+func inBrackets(d tree.Declaration) []string {
+	names := make([]string, 0, len(d.Names))
+	for _, n := range d.Names {
+		names = append(names, n.Name)
+	}
+	return names
+}
+
+// title gives a name to an expression, which from there on stands for it.
+func (m *Model) title(d tree.Declaration) titled {
+	made := m.names.made(d.Expr, nil)
+	m.names[d.Ident.Name] = thing{code: made}
+	return titled{d.Ident.Name, Term{m, made.comes}}
+}
