@@ -36,7 +36,7 @@ type machine struct {
 // thing is what a name of a module stands for.
 type thing struct {
 	code  code // of a definition with names in brackets: with these bound
-	place int  // of a variable
+	place int  // of a variable, an action or an invariant: how many of its sort stand ahead
 }
 
 // names tells what the names of a module stand for.

@@ -22,11 +22,13 @@ func (m *Model) declare(d tree.Declaration) api.Errno {
 	case "init":
 		m.initial.comes = both(m.initial.comes, m.names.made(d.Expr, nil).comes)
 	case "action":
-		m.actions = append(m.actions, m.title(d))
+		m.actions = append(m.actions, m.title(d, len(m.actions)))
+	case "fair":
+		m.fair = append(m.fair, fairness{m.names[d.Ident.Name].place, d.How == "strong"})
 	case "invariant":
-		m.invariants = append(m.invariants, m.title(d))
+		m.invariants = append(m.invariants, m.title(d, len(m.invariants)))
 	case "property":
-		m.properties = append(m.properties, d.Ident.Name)
+		m.properties = append(m.properties, stated{d.Ident.Name, d.Expr})
 	}
 	return api.OK
 }
@@ -75,8 +77,8 @@ func inBrackets(d tree.Declaration) []string {
 }
 
 // title gives a name to an expression, which from there on stands for it.
-func (m *Model) title(d tree.Declaration) titled {
+func (m *Model) title(d tree.Declaration, place int) titled {
 	made := m.names.made(d.Expr, nil)
-	m.names[d.Ident.Name] = thing{code: made}
+	m.names[d.Ident.Name] = thing{made, place}
 	return titled{d.Ident.Name, Term{m, made.comes}}
 }

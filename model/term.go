@@ -36,6 +36,27 @@ func (m *Model) EachAction() iter.Seq2[int, Term] {
 	}
 }
 
+// EachFair goes through what is fair, in order: the number of the action, and whether it is strong.
+func (m *Model) EachFair() iter.Seq2[int, bool] {
+	return func(yield func(int, bool) bool) {
+		for _, f := range m.fair {
+			if !yield(f.action, f.strong) {
+				return
+			}
+		}
+	}
+}
+
+// Invariant is the invariant of a name; false, if there is none.
+func (m *Model) Invariant(name string) (Term, bool) {
+	for _, i := range m.invariants {
+		if i.name == name {
+			return i.term, true
+		}
+	}
+	return Term{}, false
+}
+
 // Over tells what it comes to over two states that there are.
 func (t Term) Over(s, u int) value.V {
 	return t.comes(&machine{now: t.model.row(s), then: t.model.row(u)}).value

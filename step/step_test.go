@@ -143,6 +143,21 @@ func TestS2NoSuchNumber(t *testing.T) {
 	same(t, "Which", step.Which(m, 2, 2), 0, 1)
 }
 
+// An action is enabled where there is a state to which it goes.
+func TestS2Enabled(t *testing.T) {
+	m := made(t, "module M variable v in 0 .. 2 action A == v' = v + 1 action B == false action C == v = 2 action D == nil")
+	for a := -1; a < 5; a++ {
+		for s := -1; s < 4; s++ {
+			if got, want := step.Enabled(m, a, s), a == 0 && (s == 0 || s == 1) || a == 2 && s == 2; got != want {
+				t.Errorf("Enabled(%d, %d): got %v", a, s, got)
+			}
+		}
+	}
+	if step.Enabled(m, math.MaxInt, 0) || step.Enabled(m, 0, math.MinInt) {
+		t.Error("what is not there is not enabled")
+	}
+}
+
 func TestS2NoActions(t *testing.T) {
 	m := made(t, "module M variable v in 0 .. 1")
 	same(t, "Next", step.Next(m, 0))
