@@ -133,3 +133,47 @@ func TestM2Places(t *testing.T) {
 		t.Error("a module without variables has a state without places")
 	}
 }
+
+// What is so whichever state comes behind is known without one; what hangs on it is not.
+func TestM3Now(t *testing.T) {
+	m := made(t, lamp)
+	for _, row := range []struct {
+		expr     string
+		so, sure bool // over 4
+	}{
+		{"on", true, true}, {"not on", false, true}, {"by = nil", false, true}, {"nil", false, true}, {"1", false, true}, {"on'", false, false}, {"unchanged by", false, false}, {"on and on'", false, false},
+		{"not on and on'", false, true}, {"on or on'", true, true}, {"on' or on", true, true}, {"on' and false", false, true}, {"on' iff on'", false, false}, {"Press", false, true}, {"Go", false, false}, {"some h in Hands : by = h", true, true},
+	} {
+		term, _, err := m.Ready(row.expr)
+		if err != nil {
+			t.Fatal(row.expr, err)
+		}
+		if so, sure := term.Now(4); so != row.so || sure != row.sure {
+			t.Errorf("%s: got %v, %v", row.expr, so, sure)
+		}
+	}
+}
+
+func TestM3NowRandom(t *testing.T) {
+	m := made(t, world)
+	r := newMaker(3)
+	found := map[string]int{}
+	for range 2000 {
+		text := r.expr('b', 1+r.Intn(3))
+		term, _, err := m.Ready(text)
+		if err != nil {
+			continue
+		}
+		s := r.Intn(m.Space())
+		so, sure := term.Now(s)
+		for u := range m.Space() {
+			if sure && term.So(s, u) != so || so && !sure {
+				t.Fatalf("%s: Now(%d): got %v, %v; not so over %d", text, s, so, sure, u)
+			}
+		}
+		found[fmt.Sprint(so, sure)]++
+	}
+	if found["true true"] < 100 || found["false true"] < 100 || found["false false"] < 100 {
+		t.Errorf("seldom: %v", found)
+	}
+}

@@ -67,6 +67,12 @@ func (t Term) So(s, u int) bool {
 	return t.Over(s, u).So()
 }
 
+// Now tells whether it is so over a state that there is and any one behind it; it is not sure, if that hangs on the one behind.
+func (t Term) Now(s int) (so, sure bool) {
+	got := t.comes(&machine{now: t.model.row(s), then: make([]maybe, len(t.model.variables))})
+	return got.known && got.value.So(), got.known
+}
+
 // From goes through the states, ascending, for which it is so over a state that there is and them.
 func (t Term) From(s int) iter.Seq[int] {
 	return func(yield func(int) bool) {
