@@ -35,8 +35,9 @@ type machine struct {
 
 // thing is what a name of a module stands for.
 type thing struct {
-	code  code // of a definition with names in brackets: with these bound
-	place int  // of a variable, an action or an invariant: how many of its sort stand ahead
+	code  code     // of a definition with names in brackets: with these bound
+	place int      // of a variable, an action or an invariant: how many of its sort stand ahead
+	atoms []string // of a set of atoms: as they are declared
 }
 
 // names tells what the names of a module stand for.

@@ -13,12 +13,14 @@ func (m *Model) declare(d tree.Declaration) api.Errno {
 	switch d.Word {
 	case "atoms":
 		m.declareAtoms(d)
+	case "symmetric":
+		m.symmetric = append(m.symmetric, m.names[d.Ident.Name].atoms)
 	case "variable":
 		return m.declareVariable(d)
 	case "constant":
 		m.names[d.Ident.Name] = thing{code: fixed(m.fixed(d.Expr))}
 	case "define":
-		m.names[d.Ident.Name] = thing{code: m.names.made(d.Expr, inBrackets(d))}
+		m.names[d.Ident.Name] = thing{code: m.names.made(d.Expr, listed(d.Names))}
 	case "init":
 		m.initial.comes = both(m.initial.comes, m.names.made(d.Expr, nil).comes)
 	case "action":
@@ -40,7 +42,7 @@ func (m *Model) declareAtoms(d tree.Declaration) {
 		atoms = append(atoms, atom)
 		m.names[n.Name] = thing{code: fixed(atom)}
 	}
-	m.names[d.Ident.Name] = thing{code: fixed(value.Apply("set", atoms...))}
+	m.names[d.Ident.Name] = thing{code: fixed(value.Apply("set", atoms...)), atoms: listed(d.Names)}
 }
 
 func (m *Model) declareVariable(d tree.Declaration) api.Errno {
@@ -57,7 +59,7 @@ func (m *Model) declareVariable(d tree.Declaration) api.Errno {
 		return api.ErrFull
 	}
 	place := len(m.variables)
-	m.names[d.Ident.Name] = thing{code{comes: now(place)}, place}
+	m.names[d.Ident.Name] = thing{code: code{comes: now(place)}, place: place}
 	m.variables = append(m.variables, variable{d.Ident.Name, values})
 	return api.OK
 }
@@ -67,10 +69,10 @@ func (m *Model) fixed(e *tree.Expr) value.V {
 	return m.names.made(e, nil).comes(&machine{}).value
 }
 
-// inBrackets gives the names in brackets of a definition.
-func inBrackets(d tree.Declaration) []string {
-	names := make([]string, 0, len(d.Names))
-	for _, n := range d.Names {
+// listed gives names without their places.
+func listed(idents []tree.Ident) []string {
+	names := make([]string, 0, len(idents))
+	for _, n := range idents {
 		names = append(names, n.Name)
 	}
 	return names
@@ -79,6 +81,6 @@ func inBrackets(d tree.Declaration) []string {
 // title gives a name to an expression, which from there on stands for it.
 func (m *Model) title(d tree.Declaration, place int) titled {
 	made := m.names.made(d.Expr, nil)
-	m.names[d.Ident.Name] = thing{made, place}
+	m.names[d.Ident.Name] = thing{code: made, place: place}
 	return titled{d.Ident.Name, Term{m, made.comes}}
 }
