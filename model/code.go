@@ -3,6 +3,7 @@ package model
 import (
 	"slices"
 
+	"sextant/few"
 	"sextant/tree"
 	"sextant/value"
 )
@@ -35,9 +36,10 @@ type machine struct {
 
 // thing is what a name of a module stands for.
 type thing struct {
-	code  code     // of a definition with names in brackets: with these bound
-	place int      // of a variable, an action or an invariant: how many of its sort stand ahead
-	atoms []string // of a set of atoms: as they are declared
+	code   code     // of a definition with names in brackets: with these bound
+	place  int      // of a variable, an action or an invariant: how many of its sort stand ahead
+	atoms  []string // of a set of atoms: as they are declared
+	speaks few.Set  // of a variable: it; of a definition, an action or an invariant: the variables of which its expression speaks
 }
 
 // names tells what the names of a module stand for.

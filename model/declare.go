@@ -4,6 +4,7 @@ import (
 	"slices"
 
 	"sextant/api"
+	"sextant/few"
 	"sextant/tree"
 	"sextant/value"
 )
@@ -20,7 +21,7 @@ func (m *Model) declare(d tree.Declaration) api.Errno {
 	case "constant":
 		m.names[d.Ident.Name] = thing{code: fixed(m.fixed(d.Expr))}
 	case "define":
-		m.names[d.Ident.Name] = thing{code: m.names.made(d.Expr, listed(d.Names))}
+		m.names[d.Ident.Name] = thing{code: m.names.made(d.Expr, listed(d.Names)), speaks: m.names.speaks(d.Expr)}
 	case "init":
 		m.initial.comes = both(m.initial.comes, m.names.made(d.Expr, nil).comes)
 	case "action":
@@ -59,7 +60,7 @@ func (m *Model) declareVariable(d tree.Declaration) api.Errno {
 		return api.ErrFull
 	}
 	place := len(m.variables)
-	m.names[d.Ident.Name] = thing{code: code{comes: now(place)}, place: place}
+	m.names[d.Ident.Name] = thing{code: code{comes: now(place)}, place: place, speaks: few.Of(place)}
 	m.variables = append(m.variables, variable{d.Ident.Name, values})
 	return api.OK
 }
@@ -80,7 +81,7 @@ func listed(idents []tree.Ident) []string {
 
 // title gives a name to an expression, which from there on stands for it.
 func (m *Model) title(d tree.Declaration, place int) titled {
-	made := m.names.made(d.Expr, nil)
-	m.names[d.Ident.Name] = thing{code: made, place: place}
-	return titled{d.Ident.Name, Term{m, made.comes}}
+	made, parts := m.names.made(d.Expr, nil), m.names.parts(d.Expr)
+	m.names[d.Ident.Name] = thing{code: made, place: place, speaks: m.names.speaks(d.Expr)}
+	return titled{d.Ident.Name, Term{m, made.comes}, parts}
 }

@@ -23,6 +23,11 @@ func Itself(s int) []int {
 
 // Through goes through states that can be reached: their places in the row, and the states to which they have a step. Each one stands for some states, itself among them: none of these is put in the row behind it.
 func (r *Row) Through(m *model.Model, standsFor func(s int) []int) iter.Seq2[int, []int] {
+	return r.Along(m, func(s int) []int { return step.Next(m, s) }, standsFor)
+}
+
+// Along goes through states likewise, but only to those to which one goes on. It asks for these once of each state, where it goes through it.
+func (r *Row) Along(m *model.Model, goesOn, standsFor func(s int) []int) iter.Seq2[int, []int] {
 	return func(yield func(int, []int) bool) {
 		there := make([]bool, m.Space())
 		put := func(states []int, from, away int) {
@@ -39,7 +44,7 @@ func (r *Row) Through(m *model.Model, standsFor func(s int) []int) iter.Seq2[int
 		put(step.Initial(m), -1, 0)
 		for place := 0; place < len(*r); place++ {
 			at := (*r)[place]
-			next := step.Next(m, at.State)
+			next := goesOn(at.State)
 			if !yield(place, next) {
 				return
 			}
@@ -65,8 +70,8 @@ func (r Row) Depth() int {
 	return r[len(r)-1].Away
 }
 
-// way is that by which the state at a place was found.
-func (r Row) way(place int) []int {
+// Way is that by which the state at a place was found.
+func (r Row) Way(place int) []int {
 	var states []int
 	for ; place >= 0; place = r[place].From {
 		states = append(states, r[place].State)
@@ -80,7 +85,7 @@ func Nearest(m *model.Model, standsFor func(s int) []int, wanted func(state int,
 	var r Row
 	for place, next := range r.Through(m, standsFor) {
 		if wanted(r[place].State, next) {
-			return api.Answer{Trace: r.way(place), Loop: -1}
+			return api.Answer{Trace: r.Way(place), Loop: -1}
 		}
 	}
 	return api.Answer{Holds: true, Loop: -1}

@@ -55,6 +55,31 @@ func TestThrough(t *testing.T) {
 	}
 }
 
+// Where one does not go on, nothing is put in the row; each state is asked once, where it is gone through.
+func TestAlong(t *testing.T) {
+	m := made(t, twos)
+	var asked []int
+	up := func(s int) []int {
+		asked = append(asked, s)
+		if s < 6 {
+			return []int{s + 1, s + 2}
+		}
+		return nil
+	}
+	var r search.Row
+	for place, next := range r.Along(m, up, search.Itself) {
+		if s := r[place].State; len(asked) != place+1 || asked[place] != s || s < 6 && next[0] != s+1 {
+			t.Errorf("of %d: %v, %v", s, next, asked)
+		}
+	}
+	if got := fmt.Sprint(r); got != "[{2 -1 0} {4 -1 0} {3 0 1} {5 1 1} {6 1 1} {7 3 2}]" {
+		t.Errorf("got %s", got)
+	}
+	if got := fmt.Sprint(r.Way(0), r.Way(2), r.Way(5)); got != "[2] [2 3] [4 5 7]" {
+		t.Errorf("ways: %s", got)
+	}
+}
+
 func TestThroughNothing(t *testing.T) {
 	var r search.Row
 	for range r.Through(made(t, "module M init false"), search.Itself) {

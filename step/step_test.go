@@ -8,6 +8,7 @@ import (
 	"strings"
 	"testing"
 
+	"sextant/few"
 	"sextant/model"
 	"sextant/step"
 )
@@ -156,6 +157,19 @@ func TestS2Enabled(t *testing.T) {
 	if step.Enabled(m, math.MaxInt, 0) || step.Enabled(m, 0, math.MinInt) {
 		t.Error("what is not there is not enabled")
 	}
+}
+
+func TestS2Among(t *testing.T) {
+	m := made(t, "module M variable n in 0 .. 5 action A == n' = 4 action B == n' in {1, 4} action C == n < 1 and n' = 0 action D == n' < 0")
+	for _, row := range []struct {
+		actions few.Set
+		want    []int
+	}{{0, nil}, {few.Of(0), []int{4}}, {few.Of(1), []int{1, 4}}, {few.Of(2), []int{0}}, {few.Of(3), nil}, {few.Of(0) | few.Of(2), []int{0, 4}}, {few.Below(4), []int{0, 1, 4}}, {few.Below(64), []int{0, 1, 4}}, {few.Of(9), nil}} {
+		same(t, fmt.Sprint("among ", row.actions.List()), step.Among(m, 0, row.actions), row.want...)
+		same(t, "of no state", step.Among(m, 6, row.actions))
+		same(t, "of no state", step.Among(m, -1, row.actions))
+	}
+	same(t, "elsewhere", step.Among(m, 1, few.Below(4)), 1, 4)
 }
 
 func TestS2NoActions(t *testing.T) {
