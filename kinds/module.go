@@ -159,6 +159,11 @@ func (l *looker) fits(declared string, k kind) bool {
 		_, ok := l.elements(k)
 		return ok
 	}
+	return isTruth(k)
+}
+
+// isTruth tells whether what is of a kind may be asked whether it is so.
+func isTruth(k kind) bool {
 	return k == boolean || k == none
 }
 

@@ -81,7 +81,7 @@ func listed(idents []tree.Ident) []string {
 
 // title gives a name to an expression, which from there on stands for it.
 func (m *Model) title(d tree.Declaration, place int) titled {
-	made, parts := m.names.made(d.Expr, nil), m.names.parts(d.Expr)
+	made, parts := m.names.made(d.Expr, nil), m.parts(d.Expr)
 	m.names[d.Ident.Name] = thing{code: made, place: place, speaks: m.names.speaks(d.Expr)}
 	return titled{d.Ident.Name, Term{m, made.comes}, parts}
 }

@@ -9,6 +9,7 @@ import (
 
 // Part is one of what stands outermost in an expression between `and` (O1).
 type Part struct {
+	Term   Term
 	Speaks few.Set // the variables that it speaks of, by their numbers
 	Keeps  bool    // it is `unchanged` with one of them, and nothing else
 }
@@ -32,13 +33,13 @@ func (m *Model) InvariantParts(name string) []Part {
 }
 
 // parts gives the parts of an expression that is being declared.
-func (n names) parts(e *tree.Expr) []Part {
+func (m *Model) parts(e *tree.Expr) []Part {
 	if e.Sort != tree.Operator || e.Op != "and" {
-		return []Part{{n.speaks(e), e.Sort == tree.Unchanged}}
+		return []Part{{m.term(e), m.names.speaks(e), e.Sort == tree.Unchanged}}
 	}
 	var list []Part
 	for _, p := range e.Parts {
-		list = append(list, n.parts(p)...)
+		list = append(list, m.parts(p)...)
 	}
 	return list
 }
