@@ -9,8 +9,8 @@ import (
 	"sextant/model"
 )
 
-// maxBits is how many a state may have: a diagram of steps speaks of those of two states.
-const maxBits = api.MaxLevels / 2
+// MaxBits is how many a state may have: a diagram of steps speaks of those of two states.
+const MaxBits = api.MaxLevels / 2
 
 // side tells which of the two states of a step a bit is of.
 type side int
@@ -29,7 +29,7 @@ type sets struct {
 
 func newSets(m *model.Model) (*sets, error) {
 	c := newCodes(m)
-	if c.bits > maxBits {
+	if c.bits > MaxBits {
 		return nil, api.ErrFull
 	}
 	t, err := bdd.New(2 * c.bits)
