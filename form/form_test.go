@@ -464,3 +464,34 @@ func TestF6Faults(t *testing.T) {
 		lookModule(t, head+text, fmt.Sprintf("%s at %d", name, at+len(head)))
 	}
 }
+
+// What R1 asks of the form: names, their places, and the expressions, whose places are those in the whole text.
+func TestR1Given(t *testing.T) {
+	list, at, err := form.ReadGiven(" a = b = c ,\n# d = 1\n e=(f)")
+	if err != nil || at != 0 || len(list) != 2 {
+		t.Fatal(list, at, err)
+	}
+	for i, want := range []struct {
+		name     string
+		at, expr int
+	}{{"a", 1, 7}, {"e", 22, 25}} {
+		got := list[i]
+		if got.Ident.Name != want.name || got.Ident.At != want.at || got.Expr.At != want.expr {
+			t.Errorf("got %v, %v", got.Ident, got.Expr)
+		}
+	}
+	for _, text := range []string{"", "\n", " # a = 1"} {
+		if list, at, err := form.ReadGiven(text); len(list) != 0 || at != 0 || err != nil {
+			t.Errorf("%q: got %v, %v at %d", text, list, err, at)
+		}
+	}
+	for text, want := range map[string]string{
+		"a": "ErrSyntax at 1", "a = 1,": "ErrSyntax at 6", "a = 1 b = 1": "ErrSyntax at 6", "a = 1)": "ErrSyntax at 5", "a == 1": "ErrSyntax at 2", "a = 1 \xff": "ErrSyntax at 6", "all = 1": "ErrSyntax at 0",
+		"abcdefghijklmnopq = 1": "ErrRange at 0", "a = 1" + strings.Repeat(" ", api.MaxExpr): "ErrFull at 0",
+	} {
+		list, at, err := form.ReadGiven(text)
+		if got := told("", at, err); got != want || len(list) != 0 {
+			t.Errorf("%q: got %v, %s, want %s", text, list, got, want)
+		}
+	}
+}

@@ -59,16 +59,20 @@ func (r *reader) leave() {
 	r.depth--
 }
 
+// several reads one thing or more, with commas between them.
+func several[T any](r *reader, item func() T) []T {
+	items := []T{item()}
+	for r.skip(",") {
+		items = append(items, item())
+	}
+	return items
+}
+
 // list reads one thing or more, with commas between them, and the bracket behind them.
 func list[T any](r *reader, item func() T, closing string) []T {
-	var items []T
-	for {
-		items = append(items, item())
-		if r.skip(closing) {
-			return items
-		}
-		r.need(",")
-	}
+	items := several(r, item)
+	r.need(closing)
+	return items
 }
 
 // within reads, on a level of its own, a list in brackets; the reader stands at the first of them.
@@ -89,6 +93,21 @@ func (r *reader) name() tree.Ident {
 	}
 	at := r.at
 	return tree.Ident{Name: r.take(), At: at}
+}
+
+// allGiven reads names that are given expressions, as many as there are.
+func (r *reader) allGiven() []tree.Given {
+	if r.class == ending {
+		return nil
+	}
+	return several(r, r.given)
+}
+
+// given reads a name, and the expression that it is given.
+func (r *reader) given() tree.Given {
+	n := r.name()
+	r.need("=")
+	return tree.Given{Ident: n, Expr: r.expr()}
 }
 
 // expr reads an expression.

@@ -35,7 +35,7 @@ func (m *Model) formula(e *tree.Expr) Formula {
 	case e.Sort == tree.Enabled:
 		return Formula{Op: "enabled", Action: m.names[e.Name].place}
 	case !ofTime(e):
-		return Formula{Term: m.term(e)}
+		return Formula{Term: m.Term(e)}
 	}
 	parts := make([]Formula, 0, len(e.Parts))
 	for _, p := range e.Parts {

@@ -7,6 +7,7 @@ import (
 
 	"sextant/model"
 	"sextant/plain"
+	"sextant/value"
 )
 
 const timely = lamp + `action Wait == unchanged on and unchanged by
@@ -175,5 +176,21 @@ func TestM3NowRandom(t *testing.T) {
 	}
 	if found["true true"] < 100 || found["false true"] < 100 || found["false false"] < 100 {
 		t.Errorf("seldom: %v", found)
+	}
+}
+
+func TestM2Place(t *testing.T) {
+	m := made(t, "module M atoms A = {x} variable a in {0} variable b in {nil, 4, 7} variable c in {nil, x}")
+	for _, c := range []struct {
+		variable, place int // -1: none
+		text            string
+	}{{0, 0, "0"}, {1, 0, "nil"}, {1, 1, "4"}, {1, 2, "7"}, {2, 1, "x"}, {0, -1, "1"}, {0, -1, "nil"}, {1, -1, "5"}, {1, -1, "8"}, {2, -1, "y"}, {2, -1, "\"x\""}, {2, -1, "{x}"}} {
+		v, _, err := value.Read(c.text)
+		if err != nil {
+			t.Fatal(c.text, err)
+		}
+		if place, ok := m.Place(c.variable, v); ok != (c.place >= 0) || ok && place != c.place {
+			t.Errorf("Place(%d, %s): got %d, %v", c.variable, c.text, place, ok)
+		}
 	}
 }

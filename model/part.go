@@ -35,7 +35,7 @@ func (m *Model) InvariantParts(name string) []Part {
 // parts gives the parts of an expression that is being declared.
 func (m *Model) parts(e *tree.Expr) []Part {
 	if e.Sort != tree.Operator || e.Op != "and" {
-		return []Part{{m.term(e), m.names.speaks(e), e.Sort == tree.Unchanged}}
+		return []Part{{m.Term(e), m.names.speaks(e), e.Sort == tree.Unchanged}}
 	}
 	var list []Part
 	for _, p := range e.Parts {

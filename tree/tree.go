@@ -37,6 +37,12 @@ type Ident struct {
 	At   int
 }
 
+// Given is a name that is given an expression.
+type Given struct {
+	Ident Ident
+	Expr  *Expr
+}
+
 // Declaration is one of a module's. What its word does not have is empty.
 type Declaration struct {
 	Word  string // constant, atoms, symmetric, variable, define, init, action, fair, invariant or property
