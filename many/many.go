@@ -25,6 +25,11 @@ func (s *Set) Put(n int) {
 	s[n/64] |= 1 << (n % 64)
 }
 
+// Drop takes a number out.
+func (s *Set) Drop(n int) {
+	s[n/64] &^= 1 << (n % 64)
+}
+
 // Has tells whether a number is in it.
 func (s *Set) Has(n int) bool {
 	return s[n/64]>>(n%64)&1 != 0

@@ -34,6 +34,14 @@ func TestSet(t *testing.T) {
 	}
 }
 
+func TestDrop(t *testing.T) {
+	s := many.Of(0, 63, 64, last)
+	for _, n := range []int{63, 1, last, 63} {
+		s.Drop(n)
+	}
+	is(t, "Drop", s, 0, 64)
+}
+
 func TestSetsCompared(t *testing.T) {
 	s, u, zero, empty := many.Of(1, last), many.Of(last), many.Of(64), many.Set{}
 	rows := []struct {
