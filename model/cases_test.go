@@ -6,6 +6,7 @@ import (
 	"testing"
 
 	"sextant/few"
+	"sextant/kinds"
 	"sextant/model"
 	"sextant/plain"
 )
@@ -149,5 +150,23 @@ func TestAsked(t *testing.T) {
 	term, _, _ := m.Asked("by = left")
 	if !term.So(4, 4) || term.So(0, 0) {
 		t.Error("what is asked is another")
+	}
+}
+
+// A model tells the same of an expression as its module does, whatever was asked of it ahead.
+func TestK5Kinds(t *testing.T) {
+	m := made(t, lamp)
+	for _, expr := range []string{
+		"by", "{by'} union {}", "[a: 1]", `["a": 1, "b": {}]`, "on and always on", "{always on}", "fun h in Hands : 1 .. 2", "<<1>>[2 := nil]",
+		"1 + on", "all by in Hands : true", "left", "len(1 -> 2)", "Goes", "", "on )", strings.Repeat(" ", 1001), "all a in {} : all b in {} : all c in {} : all d in {} : on",
+		`{["a": <<by>>, "b": {{on}}]}`, `{["a": <<by>>, "b": {{1}}]}`, `{["a": <<by>>, "b": {{on}}]} = {["a": <<by>>, "b": {{1}}]}`,
+	} {
+		for range 2 {
+			kind, level, at, err := m.Kind(expr)
+			wantKind, wantLevel, wantAt, wantErr := kinds.Expr(lamp, expr)
+			if kind != wantKind || level != wantLevel || at != wantAt || plain.Told(err) != plain.Told(wantErr) {
+				t.Errorf("Kind(%q): %s, %d, %d, %v, want %s, %d, %d, %v", expr, kind, level, at, err, wantKind, wantLevel, wantAt, wantErr)
+			}
+		}
 	}
 }
